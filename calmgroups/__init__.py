@@ -1,0 +1,1 @@
+"""Calmgroups: groups that form by wishes, with papers."""
