@@ -1,4 +1,4 @@
-"""What an integer and a number are; the other files ask here."""
+"""What integers, numbers and rows of numbers are; the other files ask here."""
 
 
 def is_int(value):
@@ -9,3 +9,22 @@ def is_int(value):
 def is_number_below(value, bound):
     """Whether any value is an integer from 0 on that is less than bound."""
     return is_int(value) and 0 <= value < bound
+
+
+def is_tuple_of(value, length, fits):
+    """Whether any value is a tuple of this length of which each part fits."""
+    if not isinstance(value, tuple) or len(value) != length:
+        return False
+    return all([fits(part) for part in value])
+
+
+def are_unlike(value, bound):
+    """Whether any value is a tuple of numbers below bound, none twice."""
+    if not isinstance(value, tuple) or not all([is_number_below(number, bound) for number in value]):
+        return False
+    return len(set(value)) == len(value)
+
+
+def is_ascending(value, bound):
+    """Whether any value is a tuple of numbers below bound, each more than the one ahead."""
+    return are_unlike(value, bound) and sorted(value) == list(value)

@@ -1,6 +1,6 @@
 """Groups of members, and collections of groups."""
 
-from calmgroups.checks import is_number_below
+from calmgroups.checks import is_ascending, is_number_below
 from calmgroups.errors import InvalidGroup, InvalidGroups, InvalidNumber
 
 MOST_MEMBERS = 6
@@ -9,11 +9,7 @@ MOST_GROUPS = 24
 
 def is_group(value, n):
     """Whether any value is an ascending tuple, not (), of members below n."""
-    if not isinstance(value, tuple) or len(value) == 0:
-        return False
-    if not all([is_number_below(member, n) for member in value]):
-        return False
-    return all([value[k] < value[k + 1] for k in range(len(value) - 1)])
+    return is_ascending(value, n) and len(value) > 0
 
 
 def _are_groups(value, n):
@@ -25,6 +21,11 @@ def _are_groups(value, n):
     if len(set(value)) < len(value):
         return False
     return all([(member,) in value for member in range(n)])
+
+
+def in_plain_order(groups):
+    """Less members first; of as many members the one that comes first in dictionary order."""
+    return sorted(sorted(groups), key=len)
 
 
 class Collection:
@@ -71,3 +72,8 @@ class Collection:
         if not is_number_below(place, len(self.groups)) or len(self.groups[place]) == 1:
             raise InvalidNumber(place)
         return Collection(self.n, self.groups[:place] + self.groups[place + 1:])
+
+
+def groups_of(collection, member):
+    """The groups that have this member, in the order of their places."""
+    return [group for group in collection.groups if member in group]

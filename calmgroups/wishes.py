@@ -1,24 +1,22 @@
 """The wishes of members about the groups of a collection, and their plain form."""
 
-from calmgroups.checks import is_number_below
+from calmgroups.checks import is_number_below, is_tuple_of
 from calmgroups.errors import InvalidNumber, InvalidRanks
-from calmgroups.groups import Collection
+from calmgroups.groups import Collection, groups_of, in_plain_order
 
 MOST_RANK = 99
 
 
-def _is_row(value, length):
-    """Whether any value is a tuple of so many ranks."""
-    if not isinstance(value, tuple) or len(value) != length:
-        return False
-    return all([is_number_below(rank, MOST_RANK + 1) for rank in value])
+def is_rank(value):
+    """Whether any value is what a member may rank a group by."""
+    return is_number_below(value, MOST_RANK + 1)
 
 
 def _are_ranks(collection, value):
     """Whether any value has for each member a rank for each of its groups."""
     if not isinstance(value, tuple) or len(value) != collection.n:
         return False
-    return all([_is_row(row, len(collection.places_of(member))) for member, row in enumerate(value)])
+    return all([is_tuple_of(row, len(groups_of(collection, member)), is_rank) for member, row in enumerate(value)])
 
 
 class Wishes:
@@ -56,14 +54,9 @@ def is_strict(wishes):
 def plain(wishes):
     """The same wishes with the groups in plain order and with ranks 0, 1 and so on."""
     collection = wishes.collection
-    groups = _in_plain_order(collection.groups)
+    groups = in_plain_order(collection.groups)
     rows = [_plain_row(wishes, member, groups) for member in range(collection.n)]
     return Wishes(Collection(collection.n, groups), tuple(rows))
-
-
-def _in_plain_order(groups):
-    """Less members first; of as many members the one that comes first in dictionary order."""
-    return sorted(sorted(groups), key=len)
 
 
 def _plain_row(wishes, member, groups):

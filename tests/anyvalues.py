@@ -1,12 +1,34 @@
-"""Values of every kind, and a comparison that tells a bool from an integer."""
+"""Values of every kind, a comparison that tells a bool from an integer, and what tests share."""
 
 import random
+import unittest
+from itertools import combinations
 
-from calmgroups.errors import InvalidNumber
+from calmgroups.errors import InvalidNumber, Undefined
 from calmgroups.groups import Collection
 from calmgroups.wishes import Wishes
 
 HOUSE = Collection(2, [(0,), (1,), (0, 1)])
+
+
+class Tests(unittest.TestCase):
+    def refuses(self, error, value, function, *args, **named):
+        """The call raises just this error, which keeps just this value."""
+        with self.assertRaises(error) as caught:
+            function(*args, **named)
+        self.assertIs(type(caught.exception), error)
+        self.assertIs(caught.exception.value, value)
+
+    def undefined(self, what, function, *args, **named):
+        """The call raises Undefined with just this word."""
+        with self.assertRaises(Undefined) as caught:
+            function(*args, **named)
+        self.assertIs(type(caught.exception), Undefined)
+        self.assertEqual(exact(caught.exception.what), exact(what))
+
+    def same(self, one, other):
+        """Both are equal and of the same kinds, also within."""
+        self.assertEqual(exact(one), exact(other))
 
 
 def nested(depth):
@@ -31,6 +53,41 @@ def exact(value):
     if isinstance(value, (list, tuple)):
         return (type(value), [exact(part) for part in value])
     return (type(value), value)
+
+
+def shaped(value, shape):
+    """Whether the value is a plain tuple, integer and so on, as the shape tells, also within.
+
+    A class stands for a value of just this class, a list of one shape for a tuple of any
+    length of such, a tuple of shapes for a tuple of just these.
+    """
+    if isinstance(shape, list):
+        return type(value) is tuple and all(shaped(part, shape[0]) for part in value)
+    if isinstance(shape, tuple):
+        return (type(value) is tuple and len(value) == len(shape)
+                and all(shaped(part, inner) for part, inner in zip(value, shape)))
+    return type(value) is shape
+
+
+def altered(value):
+    """Values that are unlike this one at one place, without or within."""
+    if not isinstance(value, tuple):
+        others = [None, True, False, -1, 10 ** 11, "", "0", str(value), (value,), [value], [], ()]
+        if isinstance(value, int):
+            others += [value - 1, value + 1, value + 2]
+        return others
+    others = [list(value), value[1:], value[:-1], value[1:] + value[:1], value[::-1], value * 2, value[0:2], (value,)]
+    others += [value + (extra,) for extra in (None, 0, (), value)]
+    for at, part in enumerate(value):
+        others += [value[:at] + value[at + 1:], value[:at] + (part,) + value[at:]]
+        others += [value[:at] + (part,) + value[at + 1:] for part in value]
+        others += [value[:at] + (other,) + value[at + 1:] for other in altered(part)]
+    return others
+
+
+def all_groups(n):
+    """All groups of n members."""
+    return [group for size in range(1, n + 1) for group in combinations(range(n), size)]
 
 
 def random_collection(seed):

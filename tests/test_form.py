@@ -24,6 +24,14 @@ INTERFACE = {
         "is_strict": ["wishes"],
         "plain": ["wishes"],
     },
+    "texts.py": {"read_wishes": ["text"]},
+    "makers.py": {
+        "by_numbers": ["collection", "numbers"], "by_sizes": ["collection", "likes"],
+        "by_best": ["collection", "orders"], "by_worst": ["collection", "orders"],
+    },
+    "lots.py": {
+        "is_lot": ["collection", "value"], "lots": ["collection"], "own_place": ["collection", "lot", "member"],
+    },
 }
 
 UNUSED = {

@@ -2,29 +2,15 @@
 
 import unittest
 from collections import namedtuple
-from itertools import combinations
 
-from anyvalues import exact, nested, odd_values, random_collection
+from anyvalues import Tests, all_groups, exact, nested, odd_values, random_collection
 from calmgroups.errors import InvalidGroup, InvalidGroups, InvalidNumber
 from calmgroups.groups import Collection, is_group
 from calmgroups.wishes import Wishes
 
 
-def all_groups(n):
-    return [group for size in range(1, n + 1) for group in combinations(range(n), size)]
-
-
 def alone(n):
     return [(member,) for member in range(n)]
-
-
-class Tests(unittest.TestCase):
-    def refuses(self, error, value, function, *args, **named):
-        """The call raises just this error, which keeps just this value."""
-        with self.assertRaises(error) as caught:
-            function(*args, **named)
-        self.assertIs(type(caught.exception), error)
-        self.assertIs(caught.exception.value, value)
 
 
 class IsGroup(Tests):

@@ -3,7 +3,7 @@
 import unittest
 from collections import namedtuple
 
-from anyvalues import HOUSE, exact, nested, odd_values, random_wishes
+from anyvalues import HOUSE, Tests, exact, nested, odd_values, random_wishes
 from calmgroups.errors import InvalidNumber, InvalidRanks
 from calmgroups.groups import Collection
 from calmgroups.wishes import Wishes, is_strict, plain
@@ -11,15 +11,6 @@ from calmgroups.wishes import Wishes, is_strict, plain
 ONE = Collection(1, [(0,)])
 TRIO = Collection(3, [(0, 1, 2), (2,), (1, 2), (1,), (0, 1), (0,)])
 RANKS = ((5, 2, 9), (0, 7, 7, 0), (99, 4, 4))
-
-
-class Tests(unittest.TestCase):
-    def refuses(self, error, value, function, *args, **named):
-        """The call raises just this error, which keeps just this value."""
-        with self.assertRaises(error) as caught:
-            function(*args, **named)
-        self.assertIs(type(caught.exception), error)
-        self.assertIs(caught.exception.value, value)
 
 
 class Making(Tests):
