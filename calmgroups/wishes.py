@@ -51,6 +51,12 @@ def is_strict(wishes):
     return all([len(set(row)) == len(row) for row in wishes.ranks])
 
 
+def rank_table(wishes):
+    """For each member its ranks of its groups, by the places of these."""
+    collection = wishes.collection
+    return [dict(zip(collection.places_of(member), row)) for member, row in enumerate(wishes.ranks)]
+
+
 def plain(wishes):
     """The same wishes with the groups in plain order and with ranks 0, 1 and so on."""
     collection = wishes.collection

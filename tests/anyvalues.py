@@ -2,7 +2,7 @@
 
 import random
 import unittest
-from itertools import combinations
+from itertools import combinations, permutations, product
 
 from calmgroups.errors import InvalidNumber, Undefined
 from calmgroups.groups import Collection
@@ -108,3 +108,72 @@ def random_wishes(seed):
     top = chance.choice([0, 1, 3, 99])
     return Wishes(collection, tuple(
         tuple(chance.randint(0, top) for _ in collection.places_of(member)) for member in range(collection.n)))
+
+
+def strict_wishes(collection, seed):
+    """Strict wishes of chance for the collection."""
+    chance = random.Random(seed)
+    return Wishes(collection, tuple(
+        tuple(chance.sample(range(100), len(collection.places_of(member)))) for member in range(collection.n)))
+
+
+def all_strict_wishes(collection):
+    """All strict wishes for the collection, up to the ranks that tell the same."""
+    rows = [list(permutations(range(len(collection.places_of(member))))) for member in range(collection.n)]
+    return [Wishes(collection, ranks) for ranks in product(*rows)]
+
+
+def likings(wishes):
+    """For each member its ranks by place."""
+    groups = wishes.collection.groups
+    found = []
+    for member, row in enumerate(wishes.ranks):
+        places = [place for place, group in enumerate(groups) if member in group]
+        found.append({place: rank for place, rank in zip(places, row, strict=True)})
+    return found
+
+
+def splits(members):
+    """All ways to put the members in groups, each a list of groups."""
+    if not members:
+        return [[]]
+    found = []
+    for many in range(len(members)):
+        for others in combinations(members[1:], many):
+            rest = [member for member in members[1:] if member not in others]
+            found += [[(members[0],) + others] + split for split in splits(rest)]
+    return found
+
+
+def due_lots(collection):
+    """All lots, in dictionary order, found by all ways to put the members in groups."""
+    places = {group: place for place, group in enumerate(collection.groups)}
+    told = [split for split in splits(list(range(collection.n))) if all(group in places for group in split)]
+    return sorted(tuple(sorted(places[group] for group in split)) for split in told)
+
+
+def own_of(wishes, lot):
+    """For each member its rank of its own group in the lot."""
+    told = likings(wishes)
+    return [next(told[member][place] for place in lot if place in told[member]) for member in range(wishes.collection.n)]
+
+
+def does_leave(wishes, lot, place):
+    """Whether the group at this place leaves the lot."""
+    told, own = likings(wishes), own_of(wishes, lot)
+    return all(told[member][place] < own[member] for member in wishes.collection.groups[place])
+
+
+def due_calm(wishes):
+    """All calm lots, in dictionary order."""
+    places = range(len(wishes.collection.groups))
+    return [lot for lot in due_lots(wishes.collection) if not any(does_leave(wishes, lot, place) for place in places)]
+
+
+def full_collection(seed):
+    """24 groups of six members."""
+    chance = random.Random(seed)
+    more = [group for group in all_groups(6) if len(group) > 1]
+    groups = [(member,) for member in range(6)] + chance.sample(more, 18)
+    chance.shuffle(groups)
+    return Collection(6, groups)

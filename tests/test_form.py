@@ -32,6 +32,21 @@ INTERFACE = {
     "lots.py": {
         "is_lot": ["collection", "value"], "lots": ["collection"], "own_place": ["collection", "lot", "member"],
     },
+    "calm.py": {
+        "leaves": ["wishes", "lot", "place"], "leaves_softly": ["wishes", "lot", "place"],
+        "leaving": ["wishes", "lot"], "calm_lots": ["wishes"], "firm_lots": ["wishes"], "better_lot": ["wishes", "lot"],
+    },
+    "tops.py": {
+        "tops": ["wishes"], "wish_ring": ["wishes", "members"], "ring_of_wishes_holds": ["wishes", "members", "value"],
+    },
+    "lapping.py": {
+        "laps_singly": ["collection"], "group_ring": ["collection"], "group_ring_holds": ["collection", "value"],
+        "against": ["collection"],
+    },
+    "trees.py": {
+        "is_tree": ["value", "n"], "hangs_together": ["collection", "tree"], "tree_of": ["collection"],
+        "heaviest_tree": ["collection"], "shows_no_tree": ["collection", "value"], "tree_lot": ["wishes", "tree", "root"],
+    },
 }
 
 UNUSED = {

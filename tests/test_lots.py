@@ -1,43 +1,14 @@
 """Point [9]."""
 
-import random
 import unittest
 from itertools import combinations
 
-from anyvalues import HOUSE, Tests, all_groups, altered, exact, odd_values, random_collection, shaped
+from anyvalues import HOUSE, Tests, altered, due_lots, exact, full_collection, odd_values, random_collection, shaped
 from calmgroups.errors import InvalidLot, InvalidNumber
 from calmgroups.groups import Collection
 from calmgroups.lots import is_lot, lots, own_place
 
 TRIO = Collection(3, [(0, 1, 2), (2,), (1, 2), (1,), (0, 1), (0,)])
-
-
-def splits(members):
-    """All ways to put the members in groups, each a list of groups."""
-    if not members:
-        return [[]]
-    found = []
-    for many in range(len(members)):
-        for others in combinations(members[1:], many):
-            rest = [member for member in members[1:] if member not in others]
-            found += [[(members[0],) + others] + split for split in splits(rest)]
-    return found
-
-
-def due_lots(collection):
-    """All lots, in dictionary order, found by all ways to put the members in groups."""
-    places = {group: place for place, group in enumerate(collection.groups)}
-    told = [split for split in splits(list(range(collection.n))) if all(group in places for group in split)]
-    return sorted(tuple(sorted(places[group] for group in split)) for split in told)
-
-
-def full_collection(seed):
-    """24 groups of six members."""
-    chance = random.Random(seed)
-    more = [group for group in all_groups(6) if len(group) > 1]
-    groups = [(member,) for member in range(6)] + chance.sample(more, 18)
-    chance.shuffle(groups)
-    return Collection(6, groups)
 
 
 def is_due(collection, value):
