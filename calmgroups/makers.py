@@ -36,8 +36,7 @@ def _sums(collection, member, values):
 
 def _ranks_of(sums):
     """For each sum the number of unlike ones that are more."""
-    steps = sorted(set(sums), reverse=True)
-    return tuple([steps.index(one) for one in sums])
+    return tuple([len(set([other for other in sums if other > one])) for one in sums])
 
 
 def by_sizes(collection, likes):

@@ -178,6 +178,25 @@ class Form(unittest.TestCase):
                         if isinstance(inner, ast.Name) and isinstance(inner.ctx, ast.Store):
                             self.assertNotIn(inner.id, bound, name)
 
+    def test_sets_stand_straight_in_sorted_or_len(self):
+        told = 0
+        for name, tree in trees().items():
+            held = [node.args[0] for node in ast.walk(tree)
+                    if isinstance(node, ast.Call) and isinstance(node.func, ast.Name)
+                    and node.func.id in ("sorted", "len") and not node.keywords]
+            for node in ast.walk(tree):
+                if is_set(node):
+                    self.assertTrue(any(node is one for one in held), (name, node.lineno))
+                    told += 1
+        self.assertGreater(told, 0)
+
+
+def is_set(node):
+    """Whether a node makes a set."""
+    if isinstance(node, ast.Call):
+        return isinstance(node.func, ast.Name) and node.func.id in ("set", "frozenset")
+    return isinstance(node, (ast.Set, ast.SetComp))
+
 
 if __name__ == "__main__":
     unittest.main()
