@@ -38,7 +38,11 @@ def group_ring_holds(collection, value):
 
 def against(collection):
     """Some strict wishes for the collection that have no calm lot, or two or more."""
-    ring = group_ring(collection)
+    return wishes_against(collection, group_ring(collection))
+
+
+def wishes_against(collection, ring):
+    """The strict wishes in which the groups of the ring come first, each but for one member's next."""
     rows = [_ranks_against(collection, ring, member) for member in range(collection.n)]
     return Wishes(collection, tuple(rows))
 

@@ -12,14 +12,14 @@ HOUSE = Collection(2, [(0,), (1,), (0, 1)])
 
 
 class Tests(unittest.TestCase):
-    def refuses(self, error, value, function, *args, **named):
+    def refuses(self, error, value, function, /, *args, **named):
         """The call raises just this error, which keeps just this value."""
         with self.assertRaises(error) as caught:
             function(*args, **named)
         self.assertIs(type(caught.exception), error)
         self.assertIs(caught.exception.value, value)
 
-    def undefined(self, what, function, *args, **named):
+    def undefined(self, what, function, /, *args, **named):
         """The call raises Undefined with just this word."""
         with self.assertRaises(Undefined) as caught:
             function(*args, **named)
@@ -177,3 +177,48 @@ def full_collection(seed):
     groups = [(member,) for member in range(6)] + chance.sample(more, 18)
     chance.shuffle(groups)
     return Collection(6, groups)
+
+
+def of_pairs(n, pairs):
+    """The members alone, and these pairs behind them."""
+    return Collection(n, [(member,) for member in range(n)] + list(pairs))
+
+
+def random_pairs(seed):
+    """A collection of pairs of 1 to 6 members, its groups in an order of chance."""
+    chance = random.Random(seed)
+    n = chance.randint(1, 6)
+    pairs = list(combinations(range(n), 2))
+    groups = [(member,) for member in range(n)] + chance.sample(pairs, chance.randint(0, len(pairs)))
+    chance.shuffle(groups)
+    return Collection(n, groups)
+
+
+def random_two_sides(seed):
+    """A collection of pairs of chance that has two sides."""
+    chance = random.Random(seed)
+    n = chance.randint(1, 6)
+    row = [chance.randint(0, 1) for _ in range(n)]
+    pairs = [(a, b) for a, b in combinations(range(n), 2) if row[a] != row[b] and chance.random() < 0.8]
+    groups = [(member,) for member in range(n)] + pairs
+    chance.shuffle(groups)
+    return Collection(n, groups)
+
+
+def by_lists(*lists):
+    """The strict wishes of pairs in which each member likes the members of its list, best first, then itself.
+
+    Pairs that a member does not list are not in the collection.
+    """
+    n = len(lists)
+    collection = of_pairs(n, [(a, b) for a, b in combinations(range(n), 2) if b in lists[a] and a in lists[b]])
+    rows = []
+    for member, liked in enumerate(lists):
+        order = [tuple(sorted((member, other))) for other in liked] + [(member,)]
+        rows.append(tuple(order.index(group) for group in collection.groups if member in group))
+    return Wishes(collection, tuple(rows))
+
+
+def odd_circle(n):
+    """Each of n members likes the next one best, then the last one."""
+    return by_lists(*[[(member + 1) % n, (member - 1) % n] for member in range(n)])

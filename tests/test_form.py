@@ -47,7 +47,21 @@ INTERFACE = {
         "is_tree": ["value", "n"], "hangs_together": ["collection", "tree"], "tree_of": ["collection"],
         "heaviest_tree": ["collection"], "shows_no_tree": ["collection", "value"], "tree_lot": ["wishes", "tree", "root"],
     },
+    "pairs.py": {
+        "is_pairs": ["collection"], "sides": ["collection"], "odd_ring": ["collection"],
+        "odd_ring_holds": ["collection", "value"], "against_pairs": ["collection"], "proposed": ["wishes", "side"],
+    },
+    "divisions.py": {
+        "rings_of": ["value"], "division": ["wishes"], "division_holds": ["wishes", "value"], "odd_rings": ["wishes"],
+    },
+    "shares.py": {
+        "is_shares": ["collection", "value"], "shares": ["wishes"], "calm_shares_hold": ["wishes", "value"],
+        "lot_of_shares": ["collection", "value"],
+    },
 }
+
+# What may be imported from outside of the package.
+LIBRARY = {"math": {"gcd"}, "itertools": {"permutations"}}
 
 UNUSED = {
     "mro", "elements", "open", "input", "law", "version_info", "with_traceback", "add_note", "register", "compile",
@@ -122,6 +136,10 @@ class Form(unittest.TestCase):
         for name, node in nodes((ast.Import, ast.ImportFrom)):
             self.assertIsInstance(node, ast.ImportFrom, name)
             self.assertEqual(node.level, 0, name)
+            if node.module in LIBRARY:
+                self.assertLessEqual({alias.name for alias in node.names}, LIBRARY[node.module], name)
+                self.assertEqual([alias.asname for alias in node.names if alias.asname], [], name)
+                continue
             self.assertRegex(node.module, r"\Acalmgroups\.[a-z]+\Z", name)
             found = own_names(trees()[node.module.partition(".")[2] + ".py"])
             for alias in node.names:
