@@ -6,9 +6,14 @@ def is_int(value):
     return isinstance(value, int) and not isinstance(value, bool)
 
 
+def is_number(value):
+    """Whether any value is an integer from 0 on."""
+    return is_int(value) and value >= 0
+
+
 def is_number_below(value, bound):
     """Whether any value is an integer from 0 on that is less than bound."""
-    return is_int(value) and 0 <= value < bound
+    return is_number(value) and value < bound
 
 
 def is_tuple_of(value, length, fits):
@@ -28,3 +33,17 @@ def are_unlike(value, bound):
 def is_ascending(value, bound):
     """Whether any value is a tuple of numbers below bound, each more than the one ahead."""
     return are_unlike(value, bound) and sorted(value) == list(value)
+
+
+def has_bool(value):
+    """Whether any value is a bool or has one within."""
+    if isinstance(value, (list, tuple)):
+        return any([has_bool(part) for part in value])
+    return isinstance(value, bool)
+
+
+def plainly(value):
+    """The value with plain tuples for those of a class of their own, also within."""
+    if not isinstance(value, tuple):
+        return value
+    return tuple([plainly(part) for part in value])

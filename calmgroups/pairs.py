@@ -23,6 +23,11 @@ def sides(collection):
     return row
 
 
+def has_sides(collection):
+    """Whether a collection of pairs has two sides."""
+    return _first_sides(collection) is not None
+
+
 def are_sides(collection, value):
     """Whether any value has a side for each member, unlike for the two of each pair."""
     if not is_tuple_of(value, collection.n, lambda side: is_number_below(side, 2)):

@@ -35,7 +35,7 @@ def calm_shares_hold(wishes, value):
     if not is_shares(collection, value):
         return False
     table = rank_table(wishes)
-    worst = [max([ranks[place] for place in ranks if value[place][0] > 0]) for ranks in table]
+    worst = [max([ranks[own] for own in ranks if value[own][0] > 0]) for ranks in table]
     for place, group in enumerate(collection.groups):
         if all([table[member][place] < worst[member] for member in group]):
             return False
@@ -59,11 +59,11 @@ def _standings(wishes):
     collection = wishes.collection
     orders = []
     for member, ranks in enumerate(rank_table(wishes)):
-        order = [place for _, place in sorted([(ranks[place], place) for place in ranks])]
+        order = [place for _, place in sorted([(ranks[own], own) for own in ranks])]
         orders.append(order[:order.index(collection.place((member,))) + 1])
     rows = []
     for order in orders:
-        good = [place for place in order if all([place in orders[member] for member in collection.groups[place]])]
+        good = [place for place in order if all([place in orders[other] for other in collection.groups[place]])]
         rows.append({place: at for at, place in enumerate(good)})
     return rows
 

@@ -58,6 +58,24 @@ INTERFACE = {
         "is_shares": ["collection", "value"], "shares": ["wishes"], "calm_shares_hold": ["wishes", "value"],
         "lot_of_shares": ["collection", "value"],
     },
+    "moves.py": {
+        "moves": ["wishes", "lot", "kind"], "rests": ["wishes", "kind"], "heights": ["wishes", "kind"],
+        "move_ring": ["wishes", "kind"], "heights_hold": ["wishes", "kind", "value"],
+        "move_ring_holds": ["wishes", "kind", "value"], "worth": ["collection", "numbers", "lot"],
+    },
+    "claims.py": {
+        "is_question": ["thing", "value"], "is_claim": ["thing", "value"], "answer_of": ["thing", "question"],
+        "question_of": ["thing", "claim"],
+    },
+    "papers.py": {"paper_of": ["thing", "question"], "claim_holds": ["thing", "claim", "paper"]},
+    "desk.py": {
+        "Desk": {
+            "__init__": ["wishes"], "prefer": ["member", "place", "rank"], "swap": ["member", "one", "other"],
+            "bring": ["group", "ranks"], "drop": ["place"], "watch": ["question"], "leave": ["question"], "undo": [],
+            "redo": [], "claim": ["question"], "paper": ["question"], "report": [],
+        },
+        "same_state": ["one", "other"],
+    },
 }
 
 # What may be imported from outside of the package.
